@@ -35,8 +35,13 @@ def parts_among(blocks):
     return [block for block in blocks if is_part(block)]
 
 
+# The lines of a chunk part; prose has none.
+def lines_of(block):
+    return block.lines if is_part(block) else []
+
+
 def count_lines(blocks):
-    return sum([len(part.lines) for part in parts_among(blocks)])
+    return sum([len(lines_of(block)) for block in blocks])
 
 
 # A part without lines that has this header; None if the row is no header.

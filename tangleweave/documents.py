@@ -2,8 +2,8 @@
 
 from tangleweave.editing import cut, lines, move, put, read
 from tangleweave.holding import Document
-from tangleweave.renaming import refile, rename, reparam
-from tangleweave.telling import block, show, size
+from tangleweave.renaming import refile, rename, reparam, resettle
+from tangleweave.telling import block, files, names, params, parts, pieces, settings, show, size, uses
 
 READ = 0
 SHOW = 1
@@ -15,6 +15,14 @@ LINES = 6
 RENAME = 7
 REFILE = 8
 REPARAM = 9
+RESETTLE = 10
+NAMES = 11
+FILES = 12
+SETTINGS = 13
+PARTS = 14
+USES = 15
+PARAMS = 16
+PIECES = 17
 SIZE = 18
 
 
@@ -39,6 +47,14 @@ def form_of(kind):
         RENAME: (0, 2),
         REFILE: (0, 2),
         REPARAM: (0, 3),
+        RESETTLE: (0, 2),
+        NAMES: (0, 0),
+        FILES: (0, 0),
+        SETTINGS: (0, 0),
+        PARTS: (1, 1),
+        USES: (0, 1),
+        PARAMS: (0, 1),
+        PIECES: (2, 0),
         SIZE: (0, 0),
     }
     return forms[kind]
@@ -58,14 +74,6 @@ def call_at(calls, start):
     return Call(kind, numbers, rows, place)
 
 
-def told_answer(document, call):
-    if call.kind == SHOW:
-        return show(document)
-    if call.kind == BLOCK:
-        return block(document, call.numbers[0])
-    return size(document)
-
-
 def edited_answer(document, call):
     numbers = call.numbers
     rows = call.rows
@@ -77,19 +85,56 @@ def edited_answer(document, call):
         return cut(document, numbers[0], numbers[1])
     if call.kind == MOVE:
         return move(document, numbers[0], numbers[1], numbers[2])
-    if call.kind == LINES:
-        return lines(document, numbers[0], numbers[1], numbers[2], rows[0])
+    return lines(document, numbers[0], numbers[1], numbers[2], rows[0])
+
+
+def renamed_answer(document, call):
+    rows = call.rows
     if call.kind == RENAME:
         return rename(document, rows[0], rows[1])
     if call.kind == REFILE:
         return refile(document, rows[0], rows[1])
-    return reparam(document, rows[0], rows[1], rows[2])
+    if call.kind == REPARAM:
+        return reparam(document, rows[0], rows[1], rows[2])
+    return resettle(document, rows[0], rows[1])
+
+
+# The calls that tell of the whole document, and have nothing handed in.
+def whole_answer(document, call):
+    if call.kind == SHOW:
+        return show(document)
+    if call.kind == NAMES:
+        return names(document)
+    if call.kind == FILES:
+        return files(document)
+    if call.kind == SETTINGS:
+        return settings(document)
+    return size(document)
+
+
+# The calls that tell of one thing in the document.
+def single_answer(document, call):
+    numbers = call.numbers
+    rows = call.rows
+    if call.kind == BLOCK:
+        return block(document, numbers[0])
+    if call.kind == PARTS:
+        return parts(document, numbers[0], rows[0])
+    if call.kind == USES:
+        return uses(document, rows[0])
+    if call.kind == PARAMS:
+        return params(document, rows[0])
+    return pieces(document, numbers[0], numbers[1])
 
 
 def answer_of(document, call):
-    if call.kind in (SHOW, BLOCK, SIZE):
-        return told_answer(document, call)
-    return edited_answer(document, call)
+    if call.kind in (READ, PUT, CUT, MOVE, LINES):
+        return edited_answer(document, call)
+    if call.kind in (RENAME, REFILE, REPARAM, RESETTLE):
+        return renamed_answer(document, call)
+    if call.kind in (SHOW, NAMES, FILES, SETTINGS, SIZE):
+        return whole_answer(document, call)
+    return single_answer(document, call)
 
 
 def answers(calls):

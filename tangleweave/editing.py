@@ -1,10 +1,10 @@
 """The calls that change which blocks and lines a document has. Each gives back the numbers of its answer."""
 
-from tangleweave.blocks import Part, blocks_text, is_part
+from tangleweave.blocks import Part, blocks_text
 from tangleweave.codelines import read_line
 from tangleweave.holding import MOST_BYTES
 from tangleweave.reading import NO_FAULT, read_text
-from tangleweave.refusals import NO_DOCUMENT, NO_SUCH_PLACE, NOT_FITTING, NOT_THERE, WRONG_FORM
+from tangleweave.refusals import NO_DOCUMENT, NO_SUCH_PLACE, NOT_FITTING, WRONG_FORM
 from tangleweave.signs import LINE_END, is_line_of_signs, split_at
 
 
@@ -72,12 +72,11 @@ def read_lines(text):
 
 
 def lines(document, i, j, n, text):
+    refusal = document.part_refusal(i)
+    if refusal is not None:
+        return [refusal]
     blocks = document.blocks
-    if not 0 <= i < len(blocks):
-        return [NO_SUCH_PLACE]
     part = blocks[i]
-    if not is_part(part):
-        return [NOT_THERE]
     if not is_stretch(j, n, len(part.lines)):
         return [NO_SUCH_PLACE]
     new_lines = read_lines(text)

@@ -1,7 +1,8 @@
 """The document that an object holds."""
 
-from tangleweave.blocks import blocks_text
+from tangleweave.blocks import blocks_text, is_part
 from tangleweave.reading import NO_FAULT, read_text
+from tangleweave.refusals import NO_SUCH_PLACE, NOT_THERE
 
 MOST_BYTES = 20000
 
@@ -21,3 +22,11 @@ class Document:
             return False
         self.blocks = blocks
         return True
+
+    # Why block i is no chunk part, as the refusal's number; None if it is one.
+    def part_refusal(self, i):
+        if not 0 <= i < len(self.blocks):
+            return NO_SUCH_PLACE
+        if not is_part(self.blocks[i]):
+            return NOT_THERE
+        return None

@@ -1,9 +1,11 @@
 """The calls that change a name everywhere at once. Each gives back the numbers of its answer."""
 
 from tangleweave.blocks import CHUNK, FILE, Part, is_part
-from tangleweave.codelines import PARAMETER, USE, Line, Piece
+from tangleweave.codelines import IF, PARAMETER, USE, Line, Piece
 from tangleweave.refusals import NO_DOCUMENT, NOT_FITTING, NOT_THERE, TAKEN, WRONG_FORM
-from tangleweave.standing import count_uses, parts_of, standing_files, standing_names
+from tangleweave.standing import (
+    ifs_among, parts_of, standing_files, standing_names, standing_settings, use_places,
+)
 from tangleweave.words import is_name, is_path, is_short_name
 
 
@@ -49,7 +51,7 @@ def rename(document, old, new):
         return [TAKEN]
     if not document.hold([renamed(block, old, new) for block in document.blocks]):
         return [NO_DOCUMENT]
-    return [len(parts_of(document.blocks, CHUNK, new)), count_uses(document.blocks, new)]
+    return [len(parts_of(document.blocks, CHUNK, new)), len(use_places(document.blocks, new))]
 
 
 def refiled(block, old, new):
@@ -93,3 +95,28 @@ def reparam(document, name, old, new):
     if not document.hold([reparametered(block, name, old, new) for block in document.blocks]):
         return [NO_DOCUMENT]
     return [len(parts)]
+
+
+def resettled_line(line, old, new):
+    if line.kind != IF:
+        return line
+    return Line(IF, line.pieces, changed_row(line.setting, old, new))
+
+
+def resettled(block, old, new):
+    if not is_part(block):
+        return block
+    return Part(block.kind, block.name, block.parameters, [resettled_line(line, old, new) for line in block.lines])
+
+
+def resettle(document, old, new):
+    settings = standing_settings(document.blocks)
+    if old not in settings:
+        return [NOT_THERE]
+    if not is_short_name(new):
+        return [WRONG_FORM]
+    if is_taken(new, old, settings):
+        return [TAKEN]
+    if not document.hold([resettled(block, old, new) for block in document.blocks]):
+        return [NO_DOCUMENT]
+    return [len([line for line in ifs_among(document.blocks) if line.setting == new])]

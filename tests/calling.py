@@ -55,6 +55,38 @@ def reparam(name, old, new):
     return [9] + row(name) + row(old) + row(new)
 
 
+def resettle(old, new):
+    return [10] + row(old) + row(new)
+
+
+def names():
+    return [11]
+
+
+def files():
+    return [12]
+
+
+def settings():
+    return [13]
+
+
+def parts(of_file, name):
+    return [14, of_file] + row(name)
+
+
+def uses(name):
+    return [15] + row(name)
+
+
+def params(name):
+    return [16] + row(name)
+
+
+def pieces(i, j):
+    return [17, i, j]
+
+
 def size():
     return [18]
 
@@ -86,6 +118,11 @@ def ended(*rows):
 def shown(text):
     """What show answers while this is the document's text."""
     return row(text)
+
+
+def texts(*told):
+    """Texts as they are answered: how many they are, and then each as a text."""
+    return [len(told)] + joined(row(text) for text in told)
 
 
 def chunk(header, *rows):
@@ -136,3 +173,12 @@ class Edits(unittest.TestCase):
 
     def refuses(self, text, call, refusal):
         self.gives(text, call, [refusal], text)
+
+
+class Tells(unittest.TestCase):
+    """For tests of a call that tells: what it answers, twice, and that the text and its size stay as they were."""
+
+    def tells(self, text, call, answer):
+        found = run(read(text), size(), call, call, show(), size())
+        self.assertEqual(found[2:5], [answer, answer, shown(text)], call)
+        self.assertEqual(found[5], found[1], call)

@@ -124,6 +124,29 @@ def code_pieces(block):
     return [piece for row in block[1:-1] for piece in pieces(row) or []]
 
 
+def settings(blocks):
+    """The setting of each if, in the order of the text."""
+    rows = [row for block in blocks for row in block[1:-1]]
+    return [row[len("@if "):] for row in rows if row.startswith("@if ")]
+
+
+def told_texts(texts):
+    """Texts as they are answered."""
+    numbers = [len(texts)]
+    for text in texts:
+        numbers += [len(text), *text.encode()]
+    return numbers
+
+
+def told_piece(piece):
+    if piece["literal"] is not None:
+        return [0] + told_texts([piece["literal"].replace("@@", "@")])[1:]
+    if piece["parameter"] is not None:
+        return [2] + told_texts([piece["parameter"]])[1:]
+    arguments = [] if piece["arguments"] is None else piece["arguments"].split(", ")
+    return [1] + told_texts([piece["name"]])[1:] + told_texts(arguments)
+
+
 def uses(blocks):
     return [piece["name"] for block in blocks for piece in code_pieces(block) if piece["name"]]
 
@@ -262,6 +285,68 @@ class Model:
                 block = [f"@chunk {name}({told})"] + rows + ["@end"]
             blocks.append(block)
         return self.held(blocks, [len(mine)])
+
+    def resettle(self, old, new):
+        known = settings(self.blocks)
+        if old not in known:
+            return [-3]
+        if not is_short(new):
+            return [-1]
+        if new != old and new in known:
+            return [-5]
+        blocks = []
+        for block in self.blocks:
+            if head_of(block):
+                block = ["@if " + new if row == "@if " + old else row for row in block]
+            blocks.append(block)
+        return self.held(blocks, [known.count(old)])
+
+    def names(self):
+        found = {}
+        for block in self.blocks:
+            head = head_of(block)
+            mine = [head[1]] if head and head[0] == 1 else []
+            found.update(dict.fromkeys(mine + uses([block])))
+        return told_texts(list(found))
+
+    def files(self):
+        return told_texts(list(dict.fromkeys(head[1] for head in heads(self.blocks) if head[0] == 2)))
+
+    def settings(self):
+        return told_texts(list(dict.fromkeys(settings(self.blocks))))
+
+    def parts(self, of_file, name):
+        if of_file not in (0, 1):
+            return [-2]
+        wanted = (of_file + 1, name)
+        found = [i for i, block in enumerate(self.blocks) if (head_of(block) or ())[:2] == wanted]
+        return [len(found)] + found
+
+    def uses(self, name):
+        found = []
+        for i, block in enumerate(self.blocks):
+            for j, row in enumerate(block[1:-1]):
+                found += [(i, j, k) for k, piece in enumerate(pieces(row) or []) if piece["name"] == name]
+        return [len(found)] + [number for place in found for number in place]
+
+    def params(self, name):
+        mine = [head[2] for head in heads(self.blocks) if head[:2] == (1, name)]
+        return told_texts(mine[0]) if mine else [-3]
+
+    def pieces(self, i, j):
+        if i not in range(len(self.blocks)):
+            return [-2]
+        if head_of(self.blocks[i]) is None:
+            return [-3]
+        rows = self.blocks[i][1:-1]
+        if j not in range(len(rows)):
+            return [-2]
+        if rows[j].startswith("@if "):
+            return [1] + told_texts([rows[j][len("@if "):]])[1:]
+        if rows[j] in ("@else", "@fi"):
+            return [2 if rows[j] == "@else" else 3]
+        found = pieces(rows[j])
+        return [0, len(found)] + [number for piece in found for number in told_piece(piece)]
 
     def size(self):
         count = len(heads(self.blocks))

@@ -1,4 +1,4 @@
-"""All promises that are there: many lists of calls, drawn with a fixed seed, against the model's answers."""
+"""All promises: many lists of calls, drawn with a fixed seed, against the model's answers."""
 
 import random
 import unittest
@@ -14,6 +14,7 @@ LITERALS = ["x", " ", "@@", "if x", "}", "a,b()"]
 WRONG = ["", "A", "a ", "n" * 31, "p" * 41, "s" * 13, "\n", "a  b", "@"]
 ODD_ROWS = ["@", "@end", "@fi", "@else", "@if x", "@<z>", "@x", "@{a", "@{a( )}", "@{a(x,y)}", "\x7f", "p" * 201,
             "@chunk a", "@chunk a(x)", "@chunk a()", "@file", "@file f", "@{a(" + "s" * 41 + ")}"]
+NUMBERS = {"block": 1, "cut": 2, "move": 3, "pieces": 2, "size": 0}
 SIGNS = "@@@{}<>(), \nafix01-AZ~\x00\xff"
 
 
@@ -84,9 +85,10 @@ class Draw:
         """The name of a call, and its arguments."""
         number = self.number
         name = self.random.choice(["read", "put", "put", "cut", "move", "lines", "lines", "block", "rename", "rename", "refile",
-                                   "reparam", "reparam", "size"])
-        if name in ("block", "cut", "move", "size"):
-            return name, [number() for count in range({"block": 1, "cut": 2, "move": 3, "size": 0}[name])]
+                                   "reparam", "reparam", "resettle", "resettle", "parts", "uses", "params", "pieces", "pieces",
+                                   "pieces", "size"])
+        if name in NUMBERS:
+            return name, [number() for count in range(NUMBERS[name])]
         if name == "read":
             return name, [self.text(8)]
         if name == "put":
@@ -96,21 +98,27 @@ class Draw:
         if name == "reparam":
             chunk = self.one(NAMES)
             return name, [chunk, self.one(SHORTS, self.told[chunk] or SHORTS), self.one(SHORTS, WRONG, ["new"])]
-        known = NAMES if name == "rename" else PATHS
+        if name == "parts":
+            return name, [number(), self.one(NAMES, PATHS, WRONG)]
+        if name in ("uses", "params"):
+            return name, [self.one(NAMES, NAMES, PATHS, WRONG)]
+        known = {"rename": NAMES, "refile": PATHS, "resettle": SHORTS}[name]
         return name, [self.one(known), self.one(known, WRONG, ["new"])]
 
 
 class AgainstTheModel(unittest.TestCase):
     def test_drawn_calls(self):
-        for seed in range(1500):
+        for seed in range(2500):
             draw = Draw(seed)
-            drawn = [("read", [draw.text(8)])] + [draw.call() for count in range(12)]
+            # With the calls that tell behind each one it is 40 calls.
+            drawn = [("read", [draw.text(8)])] + [draw.call() for count in range(7)]
             model = Model()
             calls = []
             expected = []
             for name, arguments in drawn:
-                calls += [getattr(calling, name)(*arguments), calling.show()]
-                expected += [getattr(model, name)(*arguments), model.show()]
+                for called, handed in [(name, arguments)] + [(told, []) for told in ("show", "names", "files", "settings")]:
+                    calls.append(getattr(calling, called)(*handed))
+                    expected.append(getattr(model, called)(*handed))
             self.assertEqual(calling.run(*calls), expected, seed)
 
 

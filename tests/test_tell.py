@@ -2,7 +2,10 @@
 
 import unittest
 
-from calling import EXAMPLE, FARTHEST, block, chunk, cut, file, put, read, row, run, show, shown, size
+from calling import (
+    EXAMPLE, FARTHEST, block, chunk, cut, file, lines, move, put, read, refile, rename, reparam, resettle, row, run, show,
+    shown, size,
+)
 
 
 class Show(unittest.TestCase):
@@ -45,6 +48,22 @@ class Size(unittest.TestCase):
     def test_it_goes_with_the_edits(self):
         found = run(read("p\n"), size(), put(1, chunk("a", "x")), size(), cut(0, 1), size())
         self.assertEqual(found[1::2], [[1, 0, 0, 2], [2, 1, 1, 18], [1, 1, 1, 16]])
+
+    def test_it_goes_with_names_that_change(self):
+        text = file("f") + chunk("a(x)", "@if s", "@<x>@{a}@{a}", "@fi")
+        count = len(text)
+        found = run(
+            read(text), size(), rename("a", "abc"), size(), refile("f", "f/g.h"), size(), reparam("abc", "x", "x12"), size(),
+            resettle("s", "set"), size(), lines(1, 0, 3, "x\n"), size(), move(0, 1, 2), size(),
+        )
+        self.assertEqual(found[1:-4:2], [[2, 2, 3, count + more] for more in (0, 6, 10, 14, 16)])
+        then = len(chunk("abc(x12)", "x") + file("f/g.h"))
+        self.assertEqual(found[-4:], [[1], [2, 2, 1, then], [1], [2, 2, 1, then]])
+
+    def test_refused_calls_leave_it(self):
+        found = run(read(EXAMPLE), size(), put(0, "@"), size(), read("@"), size(), rename("greet", ""), size(),
+                    resettle("loud", "L"), size(), lines(1, 2, 1, ""), size())
+        self.assertEqual(found[3::2], [found[1]] * 5)
 
 
 if __name__ == "__main__":
